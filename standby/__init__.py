@@ -1,0 +1,1 @@
+"""Standby: a row of people, each told by whom to stand."""

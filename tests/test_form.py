@@ -1,0 +1,135 @@
+"""The rules of form that are easily seen: sizes, signs, words, imports, builtins."""
+
+import ast
+import builtins
+import pathlib
+import re
+import unittest
+import warnings
+
+FOLDER = pathlib.Path(__file__).resolve().parent.parent / "standby"
+FILES = sorted(FOLDER.glob("*.py"))
+
+BUILTINS = set("""
+    len range enumerate zip min max sum abs sorted reversed int str bool bytes list tuple dict set frozenset isinstance
+    ord repr any all divmod iter next super property staticmethod classmethod
+    Exception ValueError TypeError KeyError IndexError LookupError ZeroDivisionError ArithmeticError OverflowError
+    RuntimeError NotImplementedError AttributeError StopIteration NotImplemented
+""".split())
+
+BARRED = set("""
+    type typing typing_extensions enum Enum IntEnum StrEnum Flag IntFlag Generic Protocol ABC ABCMeta namedtuple
+    NamedTuple TypedDict TYPE_CHECKING abstractmethod
+""".split())
+
+BARRED_WITHIN = ("dataclass", "overload", "contextmanager")
+
+STATEMENTS_OF_A_MODULE = (ast.ImportFrom, ast.FunctionDef, ast.ClassDef, ast.Assign)
+
+
+def parsed():
+    for path in FILES:
+        yield path.name, ast.parse(path.read_text(encoding="ascii"))
+
+
+def nodes(*kinds):
+    for name, tree in parsed():
+        for node in ast.walk(tree):
+            if isinstance(node, kinds):
+                yield name, node
+
+
+class Form(unittest.TestCase):
+    def test_folder(self):
+        self.assertTrue((FOLDER / "__init__.py").is_file())
+        for path in FOLDER.iterdir():
+            if path.name != "__pycache__":
+                self.assertRegex(path.name, r"^[a-z0-9_]+\.py$")
+
+    def test_signs_and_sizes(self):
+        for path in FILES:
+            text = path.read_text(encoding="ascii")
+            self.assertIsNone(re.search(r"[^ -~\n]", text), path.name)
+            rows = text.split("\n")
+            self.assertLessEqual(len(rows), 399, path.name)
+            self.assertLessEqual(max(len(row) for row in rows), 120, path.name)
+        for name, node in nodes(ast.FunctionDef):
+            self.assertLessEqual(node.end_lineno - node.lineno + 1, 40, (name, node.name))
+
+    def test_words(self):
+        for path in FILES:
+            text = path.read_text(encoding="ascii")
+            self.assertEqual(BARRED & set(re.findall(r"\w+", text)), set(), path.name)
+            for word in BARRED_WITHIN:
+                self.assertNotIn(word, text, path.name)
+
+    def test_no_warnings(self):
+        with warnings.catch_warnings():
+            warnings.simplefilter("error")
+            for path in FILES:
+                compile(path.read_text(encoding="ascii"), path.name, "exec")
+
+    def test_module_level(self):
+        for name, tree in parsed():
+            bound = []
+            for node in tree.body:
+                if isinstance(node, ast.Expr):
+                    self.assertIsInstance(node.value, ast.Constant, name)
+                    continue
+                self.assertIsInstance(node, STATEMENTS_OF_A_MODULE, (name, node.lineno))
+                if isinstance(node, ast.ImportFrom):
+                    bound += [alias.asname or alias.name for alias in node.names]
+                elif isinstance(node, ast.Assign):
+                    bound += [target.id for target in node.targets]
+                else:
+                    bound.append(node.name)
+            self.assertEqual(len(bound), len(set(bound)), name)
+
+    def test_imports(self):
+        defined = {}
+        imported = {}
+        for name, tree in parsed():
+            module = "standby." + name[:-3]
+            defined[module] = {node.name for node in tree.body if isinstance(node, (ast.FunctionDef, ast.ClassDef))}
+            for node in tree.body:
+                if isinstance(node, ast.Assign):
+                    defined[module] |= {target.id for target in node.targets}
+            imported[module] = [node for node in ast.walk(tree) if isinstance(node, ast.ImportFrom)]
+        for module, found in imported.items():
+            for node in found:
+                self.assertEqual(node.level, 0, module)
+                self.assertLessEqual({alias.name for alias in node.names}, defined[node.module], module)
+        self.assertEqual(list(nodes(ast.Import)), [])
+        self.no_ring({module: [node.module for node in found] for module, found in imported.items()})
+
+    def no_ring(self, needs):
+        left = dict(needs)
+        while left:
+            free = [module for module, wanted in left.items() if not set(wanted) & set(left)]
+            self.assertTrue(free, sorted(left))
+            for module in free:
+                del left[module]
+
+    def test_builtins(self):
+        for name, node in nodes(ast.Name):
+            if hasattr(builtins, node.id):
+                self.assertIn(node.id, BUILTINS, (name, node.lineno))
+
+    def test_names(self):
+        for name, node in nodes(ast.FunctionDef, ast.ClassDef, ast.arg, ast.Name, ast.Attribute):
+            word = getattr(node, "name", None) or getattr(node, "arg", None) or getattr(node, "id", None) or node.attr
+            if not re.fullmatch(r"__[a-z]+__", word):
+                self.assertRegex(word, r"^[A-Za-z][A-Za-z0-9_]*$", name)
+        for name, node in nodes(ast.arg):
+            self.assertFalse(hasattr(builtins, node.arg), (name, node.arg))
+
+    def test_values(self):
+        for name, node in nodes(ast.Constant):
+            self.assertNotIsInstance(node.value, (float, complex), (name, node.lineno))
+            if isinstance(node.value, str):
+                self.assertNotIn("%", node.value, (name, node.lineno))
+        self.assertEqual([name for name, _ in nodes(ast.Div, ast.MatMult, ast.Global, ast.AsyncFunctionDef)], [])
+
+
+if __name__ == "__main__":
+    unittest.main()
