@@ -65,10 +65,66 @@ def many_calls(names, many, seed):
     return [tuple((who, chance.choice(whos[:1 + chance.randrange(len(whos))])) for who in whos) for _ in range(many)]
 
 
+def mixed_call(names, chance):
+    """A CALL of these people: all to few, each to a place of their own, a few who go, or anything."""
+    whos = sorted(names)
+    way = chance.randrange(4)
+    if way == 0:
+        few = [chance.choice(whos) for _ in range(2)]
+        return tuple((who, chance.choice(few)) for who in whos)
+    if way == 1:
+        told = list(whos)
+        chance.shuffle(told)
+        return tuple(zip(whos, told))
+    if way == 2:
+        return tuple((who, who if chance.randrange(4) else chance.choice(whos)) for who in whos)
+    return tuple((who, chance.choice(whos)) for who in whos)
+
+
+def many_words(names, lengths, seed):
+    """A WORD of these people for each of the lengths."""
+    chance = random.Random(seed)
+    return [[mixed_call(names, chance) for _ in range(length)] for length in lengths]
+
+
+def orders(names):
+    """Every ROW of just these people."""
+    return list(itertools.permutations(names))
+
+
+def stays(names):
+    """The CALL at which each is told their own."""
+    return tuple((name, name) for name in sorted(names))
+
+
+def unlike_people(names):
+    """Lists of other people: one more, one fewer, another one, all others."""
+    names = sorted(names)
+    lists = [names + ["qq"], names[:-1] + ["qq"], ["aaa"] + names[1:], ["p" + "qr"[at % 2] * at for at in range(1, 4)]]
+    return lists + [names[:-1], names[1:]] * (len(names) > 1)
+
+
+def unlike_words(names):
+    """WORDs of other people, and lists of CALLs of which a first, a last or a middle one is of other people."""
+    own = stays(names)
+    words = []
+    for others in unlike_people(names):
+        other = stays(others)
+        words += [[other], [other, other], [own, other], [other, own], [own, other, own], [own] * 39 + [other]]
+    return words
+
+
 def as_lists(value):
     """Value with lists for tuples, at any depth."""
     if isinstance(value, (list, tuple)):
         return [as_lists(part) for part in value]
+    return value
+
+
+def as_tuples(value):
+    """Value with tuples for lists, at any depth."""
+    if isinstance(value, (list, tuple)):
+        return tuple(as_tuples(part) for part in value)
     return value
 
 

@@ -123,6 +123,50 @@ class Form(unittest.TestCase):
         for name, node in nodes(ast.arg):
             self.assertFalse(hasattr(builtins, node.arg), (name, node.arg))
 
+    def test_no_parameter_or_local_has_the_name_of_an_import_or_a_class(self):
+        for name, tree in parsed():
+            taken = {node.name for node in tree.body if isinstance(node, ast.ClassDef)}
+            for node in tree.body:
+                if isinstance(node, ast.ImportFrom):
+                    taken |= {alias.asname or alias.name for alias in node.names}
+            for node in ast.walk(tree):
+                if isinstance(node, ast.arg):
+                    self.assertNotIn(node.arg, taken, name)
+                elif isinstance(node, ast.Name) and isinstance(node.ctx, ast.Store):
+                    self.assertNotIn(node.id, taken, (name, node.lineno))
+
+    def test_imports_are_used(self):
+        for name, tree in parsed():
+            read = {node.id for node in ast.walk(tree) if isinstance(node, ast.Name)}
+            for node in tree.body:
+                if isinstance(node, ast.ImportFrom):
+                    self.assertLessEqual({alias.name for alias in node.names}, read, name)
+
+    def test_no_name_is_a_method_and_an_attribute(self):
+        methods = {inner.name for _, node in nodes(ast.ClassDef) for inner in node.body
+                   if isinstance(inner, ast.FunctionDef)}
+        attributes = {node.attr for _, node in nodes(ast.Attribute) if isinstance(node.ctx, ast.Store)}
+        self.assertEqual(methods & attributes, set())
+
+    def test_no_generator_expressions_and_no_stars_over_calls(self):
+        self.assertEqual(list(nodes(ast.GeneratorExp)), [])
+        for name, node in nodes(ast.Starred):
+            self.assertIsInstance(node.value, ast.Name, (name, node.lineno))
+
+    def test_is_stands_beside_none_true_and_false_alone(self):
+        for name, node in nodes(ast.Compare):
+            if any(isinstance(sign, (ast.Is, ast.IsNot)) for sign in node.ops):
+                self.assertIsInstance(node.comparators[0], ast.Constant, (name, node.lineno))
+                self.assertIn(node.comparators[0].value, (None, True, False), (name, node.lineno))
+
+    def test_iterated_at_once(self):
+        """What zip, reversed, items and the like give is not stored or returned."""
+        lazy = {"zip", "enumerate", "reversed", "range", "items", "keys", "values"}
+        for name, node in nodes(ast.Assign, ast.Return):
+            if isinstance(node.value, ast.Call):
+                word = getattr(node.value.func, "id", None) or getattr(node.value.func, "attr", None)
+                self.assertNotIn(word, lazy, (name, node.lineno))
+
     def test_values(self):
         for name, node in nodes(ast.Constant):
             self.assertNotIsInstance(node.value, (float, complex), (name, node.lineno))

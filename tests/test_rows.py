@@ -6,13 +6,9 @@ from standby import rows
 from standby.errors import NoName, Unlike
 from standby.rows import falls, is_ahead, is_row, place_of, turned
 
-from samples import BAD_NAMES, NAMES, NOTHINGS, PEOPLE, as_lists, kinds, refusal, shuffles
+from samples import BAD_NAMES, NAMES, NOTHINGS, PEOPLE, as_lists, kinds, orders, refusal, shuffles
 
 ROWS = [("a",), ("zzzzzz",), ("a", "b"), ("b", "a"), ("c", "a", "b"), ("ab", "a", "b", "abcdef")] + shuffles(PEOPLE, 6, 1)
-
-
-def orders(names):
-    return list(itertools.permutations(names))
 
 
 class Interface(unittest.TestCase):
