@@ -18,6 +18,9 @@ BAD_NAMES = [
     "\xe9", "\xdf", "\xaa", "\u0131", "\u03b1", "\uff41", "\u1d43", "a\xe9", "\U0001d41a",
 ]
 
+# Groups of people so few that all their rows can be gone through.
+SMALL = (("a",), ("b", "a"), ("c", "ab", "a"), ("a", "b", "c", "d"))
+
 NUMBERS = [0, 1, -1, 2, 6, 24, 10 ** 12, -(10 ** 30)]
 
 
@@ -95,6 +98,14 @@ def orders(names):
 def stays(names):
     """The CALL at which each is told their own."""
     return tuple((name, name) for name in sorted(names))
+
+
+def small_words(names):
+    """WORDs of few people: none, one and many calls, and each call of up to three people."""
+    words = [[], [stays(names)]] + many_words(names, [1, 1, 1, 1, 2, 2, 3, 3, 5, 9], 3)
+    if len(names) < 4:
+        words += [[call] for call in all_calls(names)]
+    return words
 
 
 def unlike_people(names):
