@@ -1,6 +1,6 @@
 """Rows: tuples of unlike people, from the first place on."""
 
-from standby.errors import NoName, Unlike
+from standby.errors import Alike, NoName, Unlike
 
 LETTERS = "abcdefghijklmnopqrstuvwxyz"
 LONGEST = 6
@@ -17,6 +17,14 @@ def must_have(names, name):
     """Refuse a name that is none of these names."""
     if name not in names:
         raise NoName(name)
+
+
+def must_be_two(names, one, other):
+    """Refuse one, then other, that is none of these names, then one and the same."""
+    must_have(names, one)
+    must_have(names, other)
+    if one == other:
+        raise Alike(one)
 
 
 def must_be_same(one, other):
@@ -51,9 +59,13 @@ def turned(row):
     return tuple(row[::-1])
 
 
-def falls(one, other):
-    """Tell how many neighbours of other stand the other way about in one."""
+def fallers(one, other):
+    """Tell those who stand the other way about in one than with the one right behind them in other."""
     must_be_same(one, other)
     places = {name: place for place, name in enumerate(one)}
-    met = [places[name] for name in other]
-    return len([at for at in range(1, len(met)) if met[at] < met[at - 1]])
+    return [name for name, behind in zip(other, other[1:]) if places[behind] < places[name]]
+
+
+def falls(one, other):
+    """Tell how many neighbours of other stand the other way about in one."""
+    return len(fallers(one, other))

@@ -1,7 +1,6 @@
 """Tables: of all two people the pair on which it hangs who of them is ahead behind a word."""
 
-from standby.errors import Alike
-from standby.rows import must_be_same, must_have
+from standby.rows import must_be_same, must_be_two
 from standby.walkers import step
 from standby.words import must_be_of
 
@@ -27,10 +26,7 @@ class Table:
 
     def tells(self, one, other):
         """Tell the pair of the first row on which it hangs who of two is ahead."""
-        must_have(self.who, one)
-        must_have(self.who, other)
-        if one == other:
-            raise Alike(one)
+        must_be_two(self.who, one, other)
         return self.pairs[(one, other)]
 
     def then(self, other):

@@ -100,6 +100,12 @@ def stays(names):
     return tuple((name, name) for name in sorted(names))
 
 
+def ring_call(names):
+    """The CALL at which each is told the next one, the last one the first."""
+    names = sorted(names)
+    return tuple(zip(names, names[1:] + names[:1]))
+
+
 def small_words(names):
     """WORDs of few people: none, one and many calls, and each call of up to three people."""
     words = [[], [stays(names)]] + many_words(names, [1, 1, 1, 1, 2, 2, 3, 3, 5, 9], 3)
