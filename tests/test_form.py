@@ -27,6 +27,27 @@ BARRED_WITHIN = ("dataclass", "overload", "contextmanager")
 STATEMENTS_OF_A_MODULE = (ast.ImportFrom, ast.FunctionDef, ast.ClassDef, ast.Assign)
 
 
+INTERFACE = {
+    "errors.py": "Unlike Alike BadText BadRow BadDeed NoName NoPlace NoNumber NoDeed Never Known Last",
+    "rows.py": "is_row place_of is_ahead turned falls",
+    "calls.py": "is_call people whom stay all_to going call_of groups goers",
+    "calling.py": "called",
+    "words.py": "is_word called_all rows_behind renamed",
+    "walkers.py": "walks pair_of shows_ahead",
+    "tables.py": "Table",
+    "parting.py": "alike parting shows_parting",
+    "far.py": "far comes_round changes rests",
+    "had.py": "web wants had can_be shows_never ends_many",
+    "single.py": "rounds depth again_many rests_all passes",
+    "between.py": "calls_many call_at number_of words_many fewest_goers call_of_fewest",
+    "few.py": "named fewest_calls word_of_few shows_few",
+    "lots.py": "is_lot least_lot part_of row_of",
+    "square.py": "Square",
+    "texts.py": "row_text row_in call_text call_in word_text word_in",
+    "desk.py": "answers",
+}
+
+
 def parsed():
     for path in FILES:
         yield path.name, ast.parse(path.read_text(encoding="ascii"))
@@ -173,6 +194,27 @@ class Form(unittest.TestCase):
             if isinstance(node.value, str):
                 self.assertNotIn("%", node.value, (name, node.lineno))
         self.assertEqual([name for name, _ in nodes(ast.Div, ast.MatMult, ast.Global, ast.AsyncFunctionDef)], [])
+        for name, node in nodes(ast.BinOp):
+            if isinstance(node.op, ast.Pow):
+                self.assertIsInstance(node.right, ast.Constant, (name, node.lineno))
+
+    def test_only_own_errors_are_caught(self):
+        own = {node.name for name, node in nodes(ast.ClassDef) if name == "errors.py"}
+        for name, node in nodes(ast.ExceptHandler):
+            kinds = node.type.elts if isinstance(node.type, ast.Tuple) else [node.type]
+            self.assertLessEqual({kind.id for kind in kinds}, own, (name, node.lineno))
+
+    def test_raised_on_the_spot(self):
+        for name, node in nodes(ast.Raise):
+            if node.exc is not None:
+                self.assertIsInstance(node.exc, ast.Call, (name, node.lineno))
+                self.assertIsInstance(node.exc.func, ast.Name, (name, node.lineno))
+
+    def test_each_function_stands_in_its_file(self):
+        there = {name: {node.name for node in tree.body if isinstance(node, (ast.FunctionDef, ast.ClassDef))}
+                 for name, tree in parsed()}
+        for name, wanted in INTERFACE.items():
+            self.assertLessEqual(set(wanted.split()), there[name], name)
 
 
 if __name__ == "__main__":
