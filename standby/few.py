@@ -3,7 +3,7 @@
 from standby.between import least_places
 from standby.calling import called
 from standby.counting import power
-from standby.rows import fallers, falls, is_name
+from standby.rows import fallers, falls
 
 
 def named(call):
@@ -40,6 +40,7 @@ def word_of_few(one, other, few):
 def shows_few(one, other, few, many, thing):
     """Tell whether thing is a list of fallers that shows that no WORD of fewer than many such CALLs leads there."""
     falling = fallers(one, other)
-    if not isinstance(thing, list) or not all([is_name(name) and name in falling for name in thing]):
+    # Fallers are looked for first: only names can safely be members of a set.
+    if not isinstance(thing, list) or not all([name in falling for name in thing]):
         return False
     return thing == sorted(set(thing)) and power(few, many - 1) <= len(thing)

@@ -11,13 +11,18 @@ def told_by(word):
     return [dict(call) for call in word]
 
 
+def people_of(word):
+    """Tell all people of the word, of one without a call none."""
+    return people(word[0]) if len(word) > 0 else ()
+
+
 def is_lot(word, thing):
     """Tell whether thing is a lot of the word."""
     tellings = told_by(word)
-    if not isinstance(thing, tuple) or len(thing) == 0 or len(word) == 0:
+    if not isinstance(thing, tuple) or len(thing) == 0:
         return False
-    # Names are looked at first: only they can safely be members of a set.
-    names = people(word[0])
+    # People are looked for first: only names can safely be members of a set.
+    names = people_of(word)
     if not all([name in names for name in thing]) or list(thing) != sorted(set(thing)):
         return False
     return all([told[name] in thing for told in tellings for name in thing])
@@ -26,7 +31,7 @@ def is_lot(word, thing):
 def least_lot(word, name):
     """Tell the least lot of the word that has somebody."""
     tellings = told_by(word)
-    must_have(people(word[0]) if len(word) > 0 else (), name)
+    must_have(people_of(word), name)
     lot = [name]
     at = 0
     while at < len(lot):

@@ -76,6 +76,11 @@ class IsLot(unittest.TestCase):
         self.assertIs(is_lot([(("a", "a"),)], ("a",)), True)
         self.assertIs(is_lot([(("a", "a"),)], ()), False)
 
+    def test_a_word_of_no_call_has_no_lot(self):
+        for thing in (("a",), ("a", "b"), (), None, ["a"]):
+            self.assertIs(is_lot([], thing), False)
+        self.assertEqual(refusal(NoName, least_lot, [], "a").name, "a")
+
     def test_the_lot_of_all(self):
         for word in LARGE:
             self.assertIs(is_lot(word, tuple(PEOPLE)), True)
