@@ -49,7 +49,8 @@ class NoPlace(LookupError):
     """A place to which nobody can come."""
 
     def __init__(self, place):
-        LookupError.__init__(self, f"nobody can come to place {place}")
+        # Any number may be refused, also one of so many figures that Python does not write it out.
+        LookupError.__init__(self, "nobody can come to this place")
         self.place = place
 
 
@@ -57,7 +58,8 @@ class NoNumber(LookupError):
     """A number that no call has."""
 
     def __init__(self, number):
-        LookupError.__init__(self, f"no call has the number {number}")
+        # Not written out, as with NoPlace.
+        LookupError.__init__(self, "no call has this number")
         self.number = number
 
 
@@ -65,7 +67,8 @@ class NoDeed(LookupError):
     """A number of deeds that do not stand."""
 
     def __init__(self, many):
-        LookupError.__init__(self, f"{many} deeds do not stand")
+        # Not written out, as with NoPlace.
+        LookupError.__init__(self, "so many deeds do not stand")
         self.many = many
 
 

@@ -23,6 +23,9 @@ SMALL = (("a",), ("b", "a"), ("c", "ab", "a"), ("a", "b", "c", "d"))
 
 NUMBERS = [0, 1, -1, 2, 6, 24, 10 ** 12, -(10 ** 30)]
 
+# Numbers far beyond all bounds, some of more figures than Python writes out.
+FAR_NUMBERS = [-(10 ** 12), -(10 ** 60), 10 ** 30, 10 ** 100, 10 ** 5000, -(10 ** 5000)]
+
 
 def nested(thing, depth):
     """Thing within so many tuples."""

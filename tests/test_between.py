@@ -12,10 +12,11 @@ from standby.rows import falls, turned
 from standby.words import called_all
 
 from samples import (
-    PEOPLE, SMALL, all_calls, as_lists, kinds, many_calls, many_words, orders, refusal, shuffles, stays, unlike_people,
+    FAR_NUMBERS, PEOPLE, SMALL, all_calls, as_lists, kinds, many_calls, many_words, orders, refusal, shuffles, stays,
+    unlike_people,
 )
 
-FAR_NUMBERS = [-1, -2, -(10 ** 12), -(10 ** 60), 10 ** 30, 10 ** 100]
+NO_NUMBERS = [-1, -2] + FAR_NUMBERS
 
 
 def places_told(one, other, call):
@@ -180,13 +181,13 @@ class CallAt(unittest.TestCase):
     def test_no_number(self):
         for one, other in list(large_rows()) + [(("a",), ("a",)), (("a", "b"), ("b", "a"))]:
             many = calls_many(one, other)
-            for number in FAR_NUMBERS + [many, many + 1]:
+            for number in NO_NUMBERS + [many, many + 1]:
                 self.assertEqual(refusal(NoNumber, call_at, one, other, number).number, number)
                 self.assertEqual(refusal(NoNumber, call_at, number=number, other=list(other), one=one).number, number)
 
     def test_unlike_ahead_of_no_number(self):
         for names in (PEOPLE[:1], PEOPLE[:3], PEOPLE):
-            for others, number in itertools.product(unlike_people(names), FAR_NUMBERS + [0]):
+            for others, number in itertools.product(unlike_people(names), NO_NUMBERS + [0]):
                 refusal(Unlike, call_at, tuple(names), tuple(others), number)
                 refusal(Unlike, call_at, others, names, number)
 

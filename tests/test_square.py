@@ -11,7 +11,7 @@ from standby.square import Square
 from standby.tables import Table
 from standby.words import called_all, is_word
 
-from samples import BAD_NAMES, NAMES, NOTHINGS, PEOPLE, kinds, mixed_call, refusal, shuffles
+from samples import BAD_NAMES, FAR_NUMBERS, NAMES, NOTHINGS, PEOPLE, kinds, mixed_call, refusal, shuffles
 
 ABC = ("a", "b", "c")
 DEEDS = ("call", "come", "leave", "change")
@@ -75,7 +75,7 @@ def bad_deed(row, chance):
     """A deed that is refused of this row, by which class, with what field."""
     some, other = chance.choice(row), [name for name in NAMES + BAD_NAMES if name not in row]
     nobody, more = chance.choice(other), chance.choice(other)
-    far = chance.choice([-1, len(row) + 1, -(10 ** 30), 10 ** 30])
+    far = chance.choice([-1, len(row) + 1] + FAR_NUMBERS)
     return chance.choice([
         (("call", {nobody: some}), NoName, nobody), (("call", [(some, nobody)]), NoName, nobody),
         (("call", [(nobody, more)]), NoName, nobody), (("come", some), Known, some),
@@ -218,7 +218,7 @@ class ComeAndLeave(unittest.TestCase):
         self.assertEqual((len(square), square.deeds(), square.word(), square.begun()), (4, 1, [], ABC + ("d",)))
 
     def test_known_then_no_place(self):
-        for place in (-1, 4, -4, 25, 10 ** 30, -(10 ** 30)):
+        for place in [-1, 4, -4, 25] + FAR_NUMBERS:
             square = Square(ABC)
             for name in ABC:
                 self.assertEqual(refusal(Known, square.come, name, place).name, name)
@@ -442,7 +442,7 @@ class Asked(unittest.TestCase):
     def test_no_deed(self):
         for deeds in ([], Do.GOOD):
             square = made_anew(ABC, deeds)
-            for many in (-1, -2, -(10 ** 30), len(deeds) + 1, len(deeds) + 2, 10 ** 30):
+            for many in [-1, -2, len(deeds) + 1, len(deeds) + 2] + FAR_NUMBERS:
                 self.assertEqual(refusal(NoDeed, square.as_of, many).many, many)
             self.assertEqual(told_all(square), told_all(made_anew(ABC, deeds)))
         square.undo()
